@@ -1,0 +1,1 @@
+"""Ownlabels: taking turns over cells that every worker numbers differently."""
