@@ -132,6 +132,12 @@ class ListingTest(unittest.TestCase):
         self.assertEqual(listing[10], " 10  unless empty 9")
         self.assertEqual(listing[16], " 16  unless behind 15")
 
+    def test_single_words_at_each_line(self):
+        for word in SINGLE_WORDS:
+            listing = Program(["rest", *[word] * 23]).listing()
+            self.assertEqual(listing[1:10], [f"  {line}  {word}" for line in range(1, 10)])
+            self.assertEqual(listing[10:], [f" {line}  {word}" for line in range(10, 24)])
+
     def test_no_text_ends_with_a_space(self):
         for instructions in GOOD.values():
             for text in Program(instructions).listing():
