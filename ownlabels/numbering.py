@@ -1,6 +1,7 @@
 """Numberings: the place of each own cell of a worker."""
 
-from ownlabels.errors import BadNumbering, BadSize, NoCell
+from ownlabels.errors import BadNumbering, NoCell
+from ownlabels.limits import check_size
 
 _MOST_LISTED = 6
 
@@ -20,13 +21,13 @@ class Numbering:
     @classmethod
     def plain(cls, cells):
         """Return the numbering with place k for own cell k."""
-        _check_cells(cells, cls.MOST)
+        check_size("cells", cells, cls.MOST)
         return cls(list(range(cells)))
 
     @classmethod
     def turn(cls, cells, by):
         """Return the numbering with place (k + by) mod cells for own cell k."""
-        _check_cells(cells, cls.MOST)
+        check_size("cells", cells, cls.MOST)
         return cls([(k + by) % cells for k in range(cells)])
 
     def __call__(self, k):
@@ -78,17 +79,12 @@ class Numbering:
 
 def every_numbering(cells):
     """Yield all numberings of that many cells in ascending order."""
-    _check_cells(cells, _MOST_LISTED)
-    for places in _every_order(cells):
+    check_size("cells", cells, _MOST_LISTED)
+    for places in every_order(cells):
         yield Numbering(places)
 
 
-def _check_cells(cells, most):
-    if not 1 <= cells <= most:
-        raise BadSize(f"{cells} cells, not 1 to {most}")
-
-
-def _every_order(count):
+def every_order(count):
     """Return all orders of 0 to count - 1, ascending."""
     rows = [()]
     for _ in range(count):
