@@ -60,6 +60,10 @@ class System:
         """Return the tuple of the workers that are resting, ascending."""
         return self._all_at(state, "rest")
 
+    def is_crowd(self, state):
+        """Return whether more workers are inside than the room is for."""
+        return len(self.inside(state)) > self.capacity
+
     def run(self, schedule):
         """Yield the start state and then the state after each step of the schedule."""
         state = self.start()

@@ -9,6 +9,9 @@ FUNCTIONS = {
     "program": ["standard_program"],
     "system": ["assemble", "exchange", "rename"],
     "hall": ["visit"],
+    "rings": ["obstacle", "ring", "lockstep"],
+    "search": ["judge", "first_trouble"],
+    "progress": ["measure", "helper"],
 }
 CLASSES = {
     "numbering": {"Numbering": ["__call__", "__mul__", "__invert__", "__pow__", "power", "__eq__",
